@@ -284,7 +284,13 @@ func file(name string, data []byte) api.File {
 // foreign: files as no store makes them: a version of these tables, each a level, a number and its entries.
 func foreign(t testing.TB, c api.Config, seq uint64, l ...placed) []api.File {
 	t.Helper()
-	e := api.Edit{Log: 1, Next: 100, Seq: seq, Pointers: make([]string, c.Levels)}
+	return pointed(t, c, seq, make([]string, c.Levels), l...)
+}
+
+// pointed: the same with pointers.
+func pointed(t testing.TB, c api.Config, seq uint64, pointers []string, l ...placed) []api.File {
+	t.Helper()
+	e := api.Edit{Log: 1, Next: 100, Seq: seq, Pointers: pointers}
 	var files []api.File
 	for _, x := range l {
 		m := table.NewMaker(c)

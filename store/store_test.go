@@ -75,7 +75,7 @@ func TestNothingIsKept(t *testing.T) {
 	w.does(1, "admit")
 	w.works(4)
 	w.does(1, "lead")
-	w.writesOthers()
+	w.gets(3, put("j", "9"), "take") // it stands in the line
 	w.c.L0Trigger = 1
 	w.does(6, "claim")
 	before, levels, names, image := w.Status(), w.tables(), w.names(), fmt.Sprint(w.Image(9, nil))
@@ -99,12 +99,6 @@ func TestNothingIsKept(t *testing.T) {
 	w.is("the levels", w.tables(), levels)
 	w.is("the files", w.names(), names)
 	w.is("the image", fmt.Sprint(w.Image(9, nil)), image)
-}
-
-// writesOthers does nothing but let client 3 stand in the line.
-func (w hand) writesOthers() {
-	w.t.Helper()
-	w.gets(3, put("j", "9"), "take")
 }
 
 // TestMachines: P19.2.

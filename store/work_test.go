@@ -227,16 +227,21 @@ func TestCut(t *testing.T) {
 	w.is("P19.19: the next job", w.Status().Jobs[0].Upper[0].Number, 11)
 }
 
-// TestLevelZeroKeepsNoPointer: the pointer of level 0 stays as it is.
-func TestLevelZeroKeepsNoPointer(t *testing.T) {
+// TestPointers: P19.15: the pointer of level 0 stays as it is, and those of other levels than the job's.
+func TestPointers(t *testing.T) {
 	c := wide
 	c.L0Trigger = 2
-	files := foreign(t, c, 9, placed{0, 3, many("", 2, "a", "c")}, placed{0, 4, many("", 3, "b", "c")}, placed{1, 5, many("", 1, "c", "d")}, placed{1, 6, many("", 1, "e")})
+	files := pointed(t, c, 9, []string{"o", "p", "q", "r"},
+		placed{0, 3, many("", 2, "a", "c")}, placed{0, 4, many("", 3, "b", "c")}, placed{1, 5, many("", 1, "c", "d")}, placed{1, 6, many("", 1, "e")})
 	w := upOver(t, c, files...)
 	w.works(6)
-	w.is("P19.15: upper ones first", w.edit(), "log 7 next 10 seq 9 out 0:3 0:4 1:5 in 1:9:a-d pointers - - - -")
+	w.is("P19.15: upper ones first", w.edit(), "log 7 next 10 seq 9 out 0:3 0:4 1:5 in 1:9:a-d pointers o p q r")
 	w.is("the newest stay", w.entriesOf(9), "a2 b3 c3 d1")
 	w.is("the levels", w.tables(), "/9:a-d 6:e-e//")
+	c.Base = 4096
+	w = upOver(t, c, pointed(t, c, 9, []string{"o", "p", "q", "r"}, placed{1, 3, many(big, 9, "a", "c", "e", "g", "i")}, placed{2, 4, many("", 9, "b", "c")})...)
+	w.works(6)
+	w.is("P19.15: of level 1", w.edit(), "log 5 next 9 seq 9 out 1:3 2:4 in 2:7:a-c 2:8:e-i pointers o i q r")
 }
 
 // TestBelow: P19.14: which deletes go: those below which no hull has the key, in the version that was current at the claim.

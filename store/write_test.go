@@ -237,12 +237,29 @@ func TestDebt(t *testing.T) {
 	w.is("P19.19: Debt", x.Debt, x.Load-4096)
 	w.gets(0, put("a", "1"), "take")
 	w.does(0, "wait:debt wait:debt")
+	w.c.DebtStop = x.Debt
+	w.does(0, "wait:debt")
+	// A Sync of another client stands behind it, and waits for its turn alone.
+	w.gets(1, syncOp, "take")
+	w.does(1, "wait:turn")
 	// What is pending is asked first.
 	w.c.MaxDebt = 400
 	w.does(0, "wait:pending")
 	w.c.MaxDebt = c.MaxDebt
-	w.works(6)
+	// The stop is asked behind it.
+	w.c.L0Slow, w.c.L0Stop = 3, 3
+	w.does(0, "wait:debt")
+	w.c.DebtStop = x.Debt + 1
+	w.does(0, "wait:stop")
+	w.c.L0Slow, w.c.L0Stop = 16, 16
 	w.does(0, "admit")
+	// Compactions bring it down.
+	w.gets(2, put("a", "1"), "take")
+	w.does(1, "admit")
+	w.c.DebtStop = x.Debt
+	w.does(2, "wait:debt")
+	w.works(6)
+	w.does(2, "admit")
 }
 
 // TestGroup: who is led: those right behind the leader, as long as all weigh at most MaxGroup, or as much as the leader.
@@ -314,6 +331,7 @@ func TestRecord(t *testing.T) {
 	w.does(0, "admit lead switch")
 	w.is("P19.8: the old log, and a new one", w.names(), "current l-1 l-3 m-2")
 	w.is("P19.13: frozen", fmt.Sprint(w.Status().Frozen, w.Status().Active), "1 0")
+	w.is("it takes no more", w.frozen[0].Frozen(), true)
 	w.does(0, "append insert publish done")
 	w.is("P19.8: records", w.logged(1), "1[a b][c][b d b] 7[a] 8[e]")
 	w.is("P19.8: records of the next one", w.logged(3), "9[f]")
@@ -494,10 +512,13 @@ func TestReadOnly(t *testing.T) {
 	w.does(2, "done!192 idle")
 	w.does(1, "done!192 idle")
 	w.is("Pending", w.Status().Pending, 451)
-	w.gets(1, put("y", "1"), "take")
+	// It is no member any more: what becomes of the group is not its business.
+	w.gets(1, get("x"), "take")
+	w.gets(2, put("y", "1"), "take")
 	w.does(0, "done!192 idle")
-	w.is("the lines", fmt.Sprint(w.Status().Line, w.Status().Queue, w.Status().Pending), "[1] [] 0")
-	w.does(1, "done!192 idle")
+	w.is("the lines", fmt.Sprint(w.Status().Line, w.Status().Queue, w.Status().Pending), "[2] [] 0")
+	w.does(1, "pin done idle")
+	w.does(2, "done!192 idle")
 	w.gets(1, syncOp, "take")
 	w.does(1, "done!192")
 	w.gets(1, synced(put()), "take")
