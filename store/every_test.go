@@ -82,6 +82,7 @@ func again(t *testing.T, r *rand.Rand, l []api.Step, at int, rig api.Step) place
 		p.step(x)
 		if shown < 0 && (!p.m.up || p.m.readOnly) {
 			shown = was
+			p.holdBytes(r, 5)
 		}
 		if shown >= 0 {
 			more--
@@ -93,6 +94,7 @@ func again(t *testing.T, r *rand.Rand, l []api.Step, at int, rig api.Step) place
 	if shown < 0 {
 		return shown
 	}
+	p.holdBytes(r, 2)
 	p.step(anyFall(r))
 	if r := p.comeUp(); r.Did != api.DidUp {
 		t.Fatalf("P22.10: the next coming up: %s, error %d", word(r), r.Err)

@@ -33,6 +33,7 @@ type play struct {
 	steps []api.Step
 	seen  map[string]int
 	last  map[int]api.Reply // by machine
+	now   api.Reply         // of the last step
 	watch *watch
 }
 
@@ -88,6 +89,7 @@ func (p *play) step(x api.Step) api.Reply {
 		p.fail("reply %s %.300s, want %s %.300s", word(got), fmt.Sprintf("%+v", got), word(want), fmt.Sprintf("%+v", want))
 	}
 	p.seen[word(got)]++
+	p.now = got
 	if x.Kind == api.StepMachine {
 		p.last[x.A] = got
 	}
